@@ -1,0 +1,1 @@
+"""Lockkeeper: a lock keeper's book whose hours are not noted."""

@@ -1,0 +1,153 @@
+"""The interface as it is written, and the plainest rules on the form of the code."""
+
+import ast
+import builtins
+import importlib
+import inspect
+import pathlib
+import re
+import unittest
+
+FOLDER = pathlib.Path(__file__).resolve().parent.parent / "lockkeeper"
+
+INTERFACE = """
+locks: need_lock(thing) need_stand(lock, thing) is_hour(lock, stand, thing) after_hour(lock, stand, hour)
+    turned(lock) straight_hours(lock, level, far)
+wants: need_wants(lock, thing) wants_backwards(lock, wants) wants_overturned(lock, wants)
+courses: need_course(lock, stand, thing) last_stand(lock, stand, course) stands_of(lock, stand, course)
+    marks_of(lock, stand, course) passed_of(lock, stand, course) backwards(lock, stand, course)
+    overturned(lock, stand, course) does_meet(lock, stand, course, wants)
+needpapers: first_knot(lock, stand, wants) steps_from(lock, stand, wants, knot)
+    end_from(lock, stand, other, wants, knot) is_way(lock, stand, value) way_told(lock, stand, way)
+    check_hours(lock, stand, other, wants, paper)
+"""
+
+ALLOWED = set("""len range enumerate zip min max sum abs sorted reversed int str bool bytes list tuple dict set frozenset
+    isinstance ord repr any all divmod iter next map Exception ValueError TypeError KeyError IndexError LookupError
+    ZeroDivisionError ArithmeticError OverflowError RuntimeError NotImplementedError AttributeError StopIteration
+    NotImplemented property staticmethod classmethod super""".split())
+LIBRARY = {"heapq": {"heappush", "heappop", "heapify"}, "math": {"gcd"}, "itertools": {"product"}}
+BARRED = re.compile(r"\b(type|typing|enum|Enum|Flag|Generic|Protocol|register|mro|elements|open|input|law|version_info)\b")
+
+
+def told_interface():
+    """Triples of a module, a function, its parameters."""
+    module = None
+    for row in re.findall(r"(\w+):|(\w+)\(([^)]*)\)", INTERFACE):
+        if row[0]:
+            module = row[0]
+        else:
+            yield module, row[1], re.split(r",\s*", row[2])
+
+
+def files():
+    return sorted(FOLDER.glob("*.py"))
+
+
+def trees():
+    return [(path.name, ast.parse(path.read_text(encoding="ascii"))) for path in files()]
+
+
+class Interface(unittest.TestCase):
+
+    def test_each_function_stands_in_its_file_with_its_parameters(self):
+        many = 0
+        for module, name, parameters in told_interface():
+            many += 1
+            held = getattr(importlib.import_module(f"lockkeeper.{module}"), name)
+            self.assertEqual(held.__module__, f"lockkeeper.{module}")
+            self.assertEqual(list(inspect.signature(held).parameters), parameters, name)
+            for parameter in inspect.signature(held).parameters.values():
+                self.assertIs(parameter.kind, inspect.Parameter.POSITIONAL_OR_KEYWORD)
+                self.assertIs(parameter.default, inspect.Parameter.empty)
+        self.assertGreater(many, 20)
+
+
+class Form(unittest.TestCase):
+
+    def test_files(self):
+        self.assertIn("__init__.py", [path.name for path in files()])
+        others = [path.name for path in FOLDER.iterdir() if path.suffix != ".py" and path.name != "__pycache__"]
+        self.assertEqual(others, [])
+        for path in files():
+            lines = path.read_text(encoding="ascii").split("\n")
+            self.assertLessEqual(len(lines), 399, path.name)
+            for line in lines:
+                self.assertLessEqual(len(line), 120, (path.name, line))
+                self.assertTrue(all(" " <= sign <= "~" for sign in line), (path.name, line))
+
+    def test_functions_are_short_and_have_docstrings(self):
+        for name, tree in trees():
+            self.assertTrue(ast.get_docstring(tree), name)
+            for node in ast.walk(tree):
+                if isinstance(node, ast.FunctionDef):
+                    self.assertLessEqual(node.end_lineno - node.lineno + 1, 40, (name, node.name))
+                    self.assertEqual(node.decorator_list, [])
+                    self.assertTrue(node.name == "__init__" or ast.get_docstring(node), (name, node.name))
+
+    def test_module_level(self):
+        for name, tree in trees():
+            for node in tree.body[1:]:
+                self.assertIsInstance(node, (ast.ImportFrom, ast.FunctionDef, ast.ClassDef, ast.Assign), name)
+
+    def test_imports(self):
+        uses = {}
+        for name, tree in trees():
+            uses[name[:-3]] = []
+            for node in ast.walk(tree):
+                self.assertNotIsInstance(node, ast.Import)
+                if not isinstance(node, ast.ImportFrom):
+                    continue
+                names = {alias.name for alias in node.names}
+                self.assertTrue(all(alias.asname is None for alias in node.names))
+                if node.module in LIBRARY:
+                    self.assertLessEqual(names, LIBRARY[node.module])
+                    continue
+                package, module = node.module.split(".")
+                self.assertEqual(package, "lockkeeper")
+                uses[name[:-3]].append(module)
+                there = ast.parse((FOLDER / f"{module}.py").read_text())
+                bound = {part.name for part in there.body if isinstance(part, (ast.FunctionDef, ast.ClassDef))}
+                bound |= {part.targets[0].id for part in there.body if isinstance(part, ast.Assign)}
+                self.assertLessEqual(names, bound, name)
+        self.no_rings(uses)
+
+    def no_rings(self, uses):
+        left = dict(uses)
+        while left:
+            free = [name for name in left if not any(used in left for used in left[name])]
+            self.assertTrue(free, sorted(left))
+            left = {name: left[name] for name in left if name not in free}
+
+    def test_names(self):
+        for name, tree in trees():
+            imported = {alias.name for node in ast.walk(tree) if isinstance(node, ast.ImportFrom) for alias in node.names}
+            read = {node.id for node in ast.walk(tree) if isinstance(node, ast.Name)}
+            self.assertLessEqual(imported, read, name)
+            self.assertLessEqual(read & set(dir(builtins)), ALLOWED, name)
+            bound = {node.id for node in ast.walk(tree) if isinstance(node, ast.Name) and isinstance(node.ctx, ast.Store)}
+            bound |= {node.arg for node in ast.walk(tree) if isinstance(node, ast.arg)}
+            self.assertFalse(bound & (imported | set(dir(builtins))), name)
+            loads = {node.id for node in ast.walk(tree) if isinstance(node, ast.Name) and isinstance(node.ctx, ast.Load)}
+            self.assertNotIn("_", loads, name)
+
+    def test_barred_things(self):
+        for name, tree in trees():
+            docs = {node.body[0].value for node in ast.walk(tree)
+                    if isinstance(node, (ast.Module, ast.FunctionDef, ast.ClassDef)) and ast.get_docstring(node)}
+            for node in ast.walk(tree):
+                self.assertNotIsInstance(node, (ast.Global, ast.AsyncFunctionDef, ast.Await, ast.Div, ast.Set), name)
+                if isinstance(node, ast.Constant):
+                    self.assertNotIsInstance(node.value, (float, complex), name)
+                    if isinstance(node.value, str):
+                        self.assertNotIn("%", node.value, name)
+                        self.assertTrue(node in docs or not BARRED.search(node.value), name)
+                if isinstance(node, ast.BinOp) and isinstance(node.op, ast.Pow):
+                    self.assertIsInstance(node.right, ast.Constant, name)
+                if isinstance(node, (ast.Name, ast.arg, ast.Attribute)):
+                    word = getattr(node, "id", getattr(node, "arg", getattr(node, "attr", "")))
+                    self.assertFalse(BARRED.fullmatch(word), (name, word))
+
+
+if __name__ == "__main__":
+    unittest.main()
