@@ -1,5 +1,6 @@
 """What the tests compare the program with: plain goings through everything, hour by hour."""
 
+import functools
 import itertools
 
 
@@ -16,8 +17,8 @@ class Odd:
 
 
 # Things of other kinds than integers, tuples and words.
-OTHERS = [None, True, False, 1.0, float("nan"), "", "ab", "abcd", b"ab", [], [0, 0], {}, {0: 1}, set(), object(), Odd(), int, len,
-          range(4), 1j]
+OTHERS = [None, True, False, 1.0, float("nan"), "", "ab", "abcd", b"ab", [], [0, 0], {}, {0: 1}, set(), object(), Odd(),
+          int, len, range(4), 1j]
 
 
 def variants(value):
@@ -266,3 +267,27 @@ def judge_need(lock, stand, other, wants, paper):
         if any(low > lows.get(goal, 0) + hours for goal, hours in plain_steps(lock, stand, wants, knot).items()):
             return bad
     return "need"
+
+
+@functools.lru_cache(maxsize=None)
+def needs_from(lock, stand, wants):
+    """A dict of the NEEDS to all STANDS that COURSES lead to, by a search that ends when nothing new comes."""
+    marks, passed = wants
+    now = {(stand, stand[0], stand[0], None if passed is None else (0, 0, 0, 0))}
+    seen, told, hours = set(), {}, 0
+    while now:
+        seen |= now
+        further = set()
+        for here, low, high, been in now:
+            if marks is not None and not marks[0] <= low <= high <= marks[1]:
+                continue
+            if passed is not None and any(a > b for a, b in zip(been, passed)):
+                continue
+            if (marks is None or (low, high) == marks) and been == passed:
+                told.setdefault(here, hours)
+            for hour in hours_at(lock, here):
+                behind = after(here, hour)
+                extent = (min(low, behind[0]), max(high, behind[0])) if marks else (0, 0)
+                further.add((behind, *extent, passed_after(been, hour)))
+        now, hours = further - seen, hours + 1
+    return told

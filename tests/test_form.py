@@ -20,6 +20,19 @@ courses: need_course(lock, stand, thing) last_stand(lock, stand, course) stands_
 needpapers: first_knot(lock, stand, wants) steps_from(lock, stand, wants, knot)
     end_from(lock, stand, other, wants, knot) is_way(lock, stand, value) way_told(lock, stand, way)
     check_hours(lock, stand, other, wants, paper)
+needs: least_hours(lock, stand, other, wants) can_be(lock, stand, other, wants, hours)
+    course_in(lock, stand, other, wants, hours) hours_paper(lock, stand, other, wants)
+stretches: need_lot(lock, thing) whole_lot(lock) empty_lot(lock) lot_of(lock, stands) has_stand(lock, lot, stand)
+    both_lots(lock, lot, another) either_lot(lock, lot, another) other_stands(lock, lot)
+    is_lot_within(lock, lot, another) many_stands(lock, lot) least_stand(lock, lot)
+images: image(lock, lot, wants, hours) origin(lock, lot, wants, hours)
+clocks: need_clock(thing) does_fit(clock, heard, residue) residue_behind(clock, residue, hours)
+tollpapers: need_tolls(thing) is_reckoning(tolls, value) call_residues(tolls, reckoning) check_tolls(tolls, paper)
+    check_toll_totals(tolls, first, last, paper) check_keens(tolls, paper)
+tolls: are_tolls_right(tolls) first_wrong_call(tolls) tolls_ahead(tolls, number) tolls_behind(tolls, number)
+    tolls_may(tolls, number) first_reckoning(tolls) many_reckonings(tolls) toll_totals(tolls, first, last)
+    next_heard(tolls, gap) turned_clock(clock, many) least_round(clock) keens(tolls) least_toll_missed(tolls)
+    least_toll_added(tolls) tolls_paper(tolls) toll_totals_paper(tolls, first, last) keens_paper(tolls)
 """
 
 ALLOWED = set("""len range enumerate zip min max sum abs sorted reversed int str bool bytes list tuple dict set frozenset
@@ -60,7 +73,7 @@ class Interface(unittest.TestCase):
             for parameter in inspect.signature(held).parameters.values():
                 self.assertIs(parameter.kind, inspect.Parameter.POSITIONAL_OR_KEYWORD)
                 self.assertIs(parameter.default, inspect.Parameter.empty)
-        self.assertGreater(many, 20)
+        self.assertEqual(many, 66)
 
 
 class Form(unittest.TestCase):
