@@ -226,10 +226,15 @@ def toll_totals_paper(tolls, first, last):
     return "totals", tuple(rows[total] for total in sorted(rows)), tuple(tuple(sorted(table)) for table in tables)
 
 
+def is_corner(pairs, pair):
+    """Whether a pair is not no greater in both than another one of the pairs."""
+    return not any(is_no_greater(pair, other) for other in pairs if other != pair)
+
+
 def wrong_corners(steps):
-    """The list of pairs with which TOLLS are not right, but for those no greater in both than another one."""
+    """The list of the greatest pairs with which TOLLS are not right, by what stairs tells."""
     pairs = [(missed, steps[missed] - 1) for missed in range(25) if steps[missed] > 0]
-    return [pair for pair in pairs if not any(is_no_greater(pair, other) for other in pairs if other != pair)]
+    return [pair for pair in pairs if is_corner(pairs, pair)]
 
 
 def keens_paper(tolls):

@@ -210,6 +210,12 @@ class Papers(Asking):
                     self.refused(BadPaper, {"part": told[1]}, check_hours, lock, stand, other, wants, tried)
             self.assertGreater(bad, 10)
 
+    def test_a_low_of_nought_or_below(self):
+        lock, stand, other, wants, (word, way, lows) = self.HOLD[0]
+        for many in (0, -1):
+            paper = (word, way, (lows[0], (("high", 0, None, (1, 1)), many), lows[1]))
+            self.refused(BadPaper, {"part": "need"}, check_hours, lock, stand, other, wants, paper)
+
     def test_form(self):
         for lock, stand, other, wants, paper in self.HOLD:
             wrong = OTHERS + [(), ("need",), ("need", ()), ("need", (), (), ()), ("never",), ("never", (), ()), (Ellipsis, ()),

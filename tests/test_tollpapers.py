@@ -157,8 +157,10 @@ class Papers(Asking):
         self.told(((0, 1), (1, 0)), check_keens(tolls=tolls, paper=("keens", rows, outs)))
         for part, these, those in [
                 ("rows", rows[::-1], outs), ("rows", rows + rows[1:], outs), ("rows", (((0, 0), 0, ()),), outs),
-                ("rows", (((0, 25), 0, ()),), outs), ("rows", (((0, True), 0, ()),), outs), ("rows", (((0, 1), 2, ()),), outs),
+                ("rows", (((0, 25), 0, ()),), outs), ("rows", (((25, 0), 0, ()),), outs),
+                ("rows", (((0, True), 0, ()),), outs), ("rows", (((0, 1), 2, ()),), outs),
                 ("outs", rows, (((0, 1), ((),)),)), ("outs", rows, outs * 2), ("outs", rows, (((-1, 0), ((),)),)),
+                ("outs", rows, outs + (((0, 25), ((),)),)), ("outs", rows, outs + (((25, 0), ((),)),)),
                 ("outs", rows, (((0, 0), ()),)), ("outs", rows, (((0, False), ((),)),)), ("outs", rows, list(outs)),
                 ("least", (((0, 1), 0, ()), ((0, 2), 0, ())), outs), ("least", rows + (((2, 2), 0, ()),), ()),
                 ("every", rows, ()), ("every", rows[:1], outs), ("every", (), outs), ("every", rows[1:], outs)]:

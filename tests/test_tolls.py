@@ -186,6 +186,7 @@ class Keens(Asking):
         self.told(0, least_toll_missed((((5,), 24, 4), ((None, 9),))))
         self.told(24, least_toll_missed((((24,), 0, 0), ((None, 0),))))
         self.told(24, least_toll_added((((24,), 0, 0), ((None, 48),))))
+        self.told(None, least_toll_added((((24,), 0, 0), ((None, 49),))))
 
 
 class Papers(Asking):

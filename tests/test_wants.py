@@ -33,7 +33,7 @@ class Wants(Asking):
 
     def test_passed(self):
         wrong = OTHERS[1:] + [(), (1,), (1, 1, 1), (0,) * 5, [0, 0, 0, 0], (0, 0, 0, 3), (-1, 0, 0, 0), (0, 3, 0, 0)]
-        wrong += [(0,) * at + (other,) + (0,) * (3 - at) for other in OTHERS for at in range(4)]
+        wrong += [(0,) * at + (other,) + (0,) * (3 - at) for other in OTHERS + [-1, 3] for at in range(4)]
         for call in (need_wants, wants_backwards, wants_overturned):
             for thing in wrong:
                 self.refused(BadWants, {"part": "passed"}, call, LOCK, (None, thing))
