@@ -33,12 +33,12 @@ def soonest(lock, stand, wants, sources, most):
     return best, ahead
 
 
-def knots_from(lock, stand, wants):
+def knots_from(lock, stand, wants, most):
     """What soonest tells of the first KNOT; two empty dicts if there is none."""
     first = first_of(lock, stand, wants)
     if first is None:
         return {}, {}
-    return soonest(lock, stand, wants, {first: 0}, None)
+    return soonest(lock, stand, wants, {first: 0}, most)
 
 
 def best_end(lock, stand, other, wants, best):
@@ -63,7 +63,7 @@ def need_ends(lock, stand, other, wants):
 def least_hours(lock, stand, other, wants):
     """The NEED, or None."""
     need_ends(lock, stand, other, wants)
-    best, _ = knots_from(lock, stand, wants)
+    best, _ = knots_from(lock, stand, wants, None)
     return best_end(lock, stand, other, wants, best)[0]
 
 
@@ -137,24 +137,32 @@ def course_by(lock, stand, way):
     return course
 
 
-def course_in(lock, stand, other, wants, hours):
-    """A COURSE with so many HOURS that leads there and meets the WANTS."""
-    need_ends(lock, stand, other, wants)
-    if not is_within(hours, 0, 400):
-        raise BadNumber(hours)
-    best, ahead = knots_from(lock, stand, wants)
+def course_between(lock, stand, other, wants, hours):
+    """As course_in, of arguments that are known to be such; None if there is no such COURSE."""
+    best, ahead = knots_from(lock, stand, wants, hours)
     need, last = best_end(lock, stand, other, wants, best)
     if need is None or need > hours:
-        raise Nothing(hours)
+        return None
     way = way_to(lock, stand, other, wants, path_to(ahead, last))
     held = [("water", stand[0])] * (hours - need)
     return tuple(held + course_by(lock, stand, way))
 
 
+def course_in(lock, stand, other, wants, hours):
+    """A COURSE with so many HOURS that leads there and meets the WANTS."""
+    need_ends(lock, stand, other, wants)
+    if not is_within(hours, 0, 400):
+        raise BadNumber(hours)
+    course = course_between(lock, stand, other, wants, hours)
+    if course is None:
+        raise Nothing(hours)
+    return course
+
+
 def hours_paper(lock, stand, other, wants):
     """A PAPER on the NEED that holds."""
     need_ends(lock, stand, other, wants)
-    best, ahead = knots_from(lock, stand, wants)
+    best, ahead = knots_from(lock, stand, wants, None)
     need, last = best_end(lock, stand, other, wants, best)
     if need is None:
         return "never", tuple(sorted(best))

@@ -76,6 +76,27 @@ def left_over(lock, stretches):
     return tuple(pairs)
 
 
+def lots_shared(lot, another):
+    """As both_lots, of what are known to be LOTS."""
+    return tuple([shared(part, other) for part, other in zip(lot, another)])
+
+
+def lots_joined(lot, another):
+    """As either_lot, of what are known to be LOTS."""
+    return tuple([joined(part + other) for part, other in zip(lot, another)])
+
+
+def first_stand(lot):
+    """As least_stand, of what is known to be a LOT."""
+    firsts = [(part[0][0], boats) for boats, part in enumerate(lot) if part]
+    return min(firsts, default=None)
+
+
+def has_level(stretches, level):
+    """Whether a level is within the STRETCHES."""
+    return any([low <= level <= high for low, high in stretches])
+
+
 def whole_lot(lock):
     """The LOT of all STANDS."""
     need_lock(lock)
@@ -105,21 +126,21 @@ def has_stand(lock, lot, stand):
     """Whether the LOT has the STAND."""
     need_lot(lock, lot)
     need_stand(lock, stand)
-    return any(low <= stand[0] <= high for low, high in lot[stand[1]])
+    return has_level(lot[stand[1]], stand[0])
 
 
 def both_lots(lock, lot, another):
     """The LOT of the STANDS that both have."""
     need_lot(lock, lot)
     need_lot(lock, another)
-    return tuple(shared(part, other) for part, other in zip(lot, another))
+    return lots_shared(lot, another)
 
 
 def either_lot(lock, lot, another):
     """The LOT of the STANDS that one of them has at least."""
     need_lot(lock, lot)
     need_lot(lock, another)
-    return tuple(joined(part + other) for part, other in zip(lot, another))
+    return lots_joined(lot, another)
 
 
 def other_stands(lock, lot):
@@ -141,6 +162,4 @@ def many_stands(lock, lot):
 
 def least_stand(lock, lot):
     """The least STAND that the LOT has, None if it has none."""
-    need_lot(lock, lot)
-    firsts = [(part[0][0], boats) for boats, part in enumerate(lot) if part]
-    return min(firsts, default=None)
+    return first_stand(need_lot(lock, lot))

@@ -2,7 +2,9 @@
 
 import unittest
 
+from lockkeeper.errors import BadBook, BadPaper
 from tests.plain import same
+from tests.somebooks import WRONG_BOOKS
 
 
 class Asking(unittest.TestCase):
@@ -19,3 +21,21 @@ class Asking(unittest.TestCase):
     def told(self, worth, result):
         """Asks that a result is this one, of the same kinds throughout."""
         self.assertTrue(same(worth, result), f"{result!r} is not {worth!r}")
+
+    def refuses_wrong_books(self, *calls):
+        """Asks that each call of one thing refuses all that is no BOOK."""
+        for call in calls:
+            for thing, place in WRONG_BOOKS:
+                self.refused(BadBook, {"place": place}, call, thing)
+
+    def judged_alike(self, judge, check, args, papers):
+        """Asks that papers are judged as a plain judge does: a dict of how many were judged so."""
+        told = {}
+        for paper in papers:
+            word = judge(*args, paper)
+            told[word] = told.get(word, 0) + 1
+            if isinstance(word, str):
+                self.told(word, check(*args, paper))
+            else:
+                self.refused(BadPaper, {"part": word[1]}, check, *args, paper)
+        return told
