@@ -44,6 +44,15 @@ histories: history_overturned(book, history) history_backwards(book, history) hi
     history_with(book, number, state) history_through(book, tables, hours=None) book_paper(book)
 dutypapers: need_bounds(book, thing) need_duty(thing) bound_by(book, duty) bounds_of(book, duty)
     keeps_all(book, bounds, value) check_bounds(book, bounds, paper) check_duty(book, duty, paper)
+maybes: may_levels(book, number) may_boats(book, number) may_residues(book, number) sure_things(book)
+    totals(book, number, other) may_hear(book, gap) book_missed(book) book_added(book)
+duties: at_once(book, bounds) bounds_paper(book, bounds) standing_of(book, duty) duty_paper(book, duty)
+    all_at_once(book, duties)
+notes: notes_of(book) left_out(book, bunch) kept_alone(book, bunch) mends(book) clashes(book) fewest(book)
+    doubt_of(book, note) believable(book, number) corrections(book, note) notes_paper(book)
+notepapers: check_notes(book, paper)
+looks: is_look(book, thing) look_of(book, history, claim) answers_of(book, history, menu)
+marks: marked_at(book, menu, claim, number)
 """
 
 ALLOWED = set("""len range enumerate zip min max sum abs sorted reversed int str bool bytes list tuple dict set frozenset
@@ -85,7 +94,7 @@ class Interface(unittest.TestCase):
             self.assertEqual([str(parameter) for parameter in told], parameters, name)
             for parameter in told:
                 self.assertIs(parameter.kind, inspect.Parameter.POSITIONAL_OR_KEYWORD)
-        self.assertEqual(many, 101)
+        self.assertEqual(many, 129)
 
 
 class Form(unittest.TestCase):
