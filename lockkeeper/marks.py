@@ -9,11 +9,6 @@ from lockkeeper.stretches import clipped
 # A layer has here KEYS but for their RESIDUES: pairs (TOLD, SINCE).
 
 
-def last_entry(look):
-    """The number of the last ENTRY that a LOOK names."""
-    return look[2] if look[0] == "between" else look[1]
-
-
 def first_key(looks):
     """The pair (TOLD, SINCE) as it is ahead of all ENTRIES."""
     return (2,) * len(looks), (-1,) * len(looks)
@@ -70,15 +65,15 @@ def lot_against_look(lot, residue, look):
 
 def split_layer(layer, at, look):
     """A layer with each of its SETS split by a LOOK at the STATE, the one with this place in TOLD."""
-    split = {}
+    further = {}
     for told, since in layer:
         sets = layer[(told, since)]
         well = tuple([lot_by_look(lot, residue, look) for residue, lot in enumerate(sets)])
         ill = tuple([lot_against_look(lot, residue, look) for residue, lot in enumerate(sets)])
         for worth, part in ((1, well), (0, ill)):
             if has_any(part):
-                split[(told[:at] + (worth,) + told[at + 1:], since)] = part
-    return split
+                further[(told[:at] + (worth,) + told[at + 1:], since)] = part
+    return further
 
 
 def looked_at(layer, looks, number):

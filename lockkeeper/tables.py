@@ -48,8 +48,9 @@ def tables_behind(book, roads):
 
 def tables_possible(book, roads):
     """The list of the SETS that are possible at each ENTRY."""
-    pairs = zip(tables_ahead(book, roads), tables_behind(book, roads))
-    return [sets_shared(ahead, behind) for ahead, behind in pairs]
+    aheads = tables_ahead(book, roads)
+    behinds = tables_behind(book, roads)
+    return [sets_shared(ahead, behind) for ahead, behind in zip(aheads, behinds)]
 
 
 def states_ahead(book, number):

@@ -100,6 +100,15 @@ class Marks(Asking):
         for thing in (-1, 4, True, None):
             self.refused(BadNumber, {"given": thing}, marked_at, eleven, FAR, ("level", 3, 0), thing)
 
+    def test_one_key_too_many(self):
+        # 12 RESIDUES, 169 pairs of HOURS; three of these pairs come together as 22, at most, is counted of 24.
+        book = ((0, 1, 1, 0), (TWELVE, 0, 0), (entry(), entry((0, 12)), entry((0, 12)), entry((0, 0))))
+        menu = (("between", 0, 3, 22), ("between", 1, 3, BIG))
+        self.assertEqual(len(marked_at(book, menu, ("hour", 0, ()), 2)), 12 * 166)
+        # Where pairs came together the first RESIDUE is not known, and told apart as 0 and 1, or 0 and 2, or not.
+        self.assertEqual(len(marked_at(book, menu, ("hour", 0, (0, 1)), 2)), 1998)
+        self.refused(TooMany, {"most": 2000}, marked_at, book, menu, ("hour", 0, (0, 2)), 2)
+
     def test_great_books(self):
         chance = random.Random(32)
         times = 10 ** 29
