@@ -166,6 +166,11 @@ def layer_on(book, road, number, layer, going):
     return {key: tuple(further[key]) for key in further if has_any(further[key])}
 
 
+def is_layer_within(layer, held):
+    """Whether the second layer has all that the first one has."""
+    return all([key in held and are_sets_within(layer[key], held[key]) for key in layer])
+
+
 def sets_on(book, road, number, sets, going):
     """The SETS to which SETS at the ENTRY ahead lead by an ENTRY."""
     return layer_on(book, road, number, {(): sets}, going).get((), no_sets(book))

@@ -1,7 +1,7 @@
 """BOUNDS and DUTIES, and the checks of the PAPERS on them."""
 
 from lockkeeper.bookpapers import (
-    are_sets, are_sets_within, does_agree_with, has_any, layer_on, roads_of, suiting_at)
+    are_sets, does_agree_with, has_any, is_layer_within, layer_on, roads_of, suiting_at)
 from lockkeeper.books import is_entry_number, is_letter, need_book
 from lockkeeper.errors import BadBound, BadDuty, BadPaper, TooMany
 from lockkeeper.kinds import is_ascending, is_tuple_of, is_within, is_worded
@@ -167,8 +167,7 @@ def are_rolls(book, roads, bounds, rolls):
     for number in range(len(layers)):
         if number > 0:
             led = layer_on(book, roads[number], number, layers[number - 1], counting(bounds))
-        held = layers[number]
-        if not all([counts in held and are_sets_within(led[counts], held[counts]) for counts in led]):
+        if not is_layer_within(led, layers[number]):
             return False
     return True
 

@@ -61,16 +61,29 @@ def step_back(book, road, number, layer, key, state, going):
     return None
 
 
-def history_in(book, roads, layers, going):
-    """A HISTORY that goes through layers, one for each ENTRY, each of what layer_on tells of the one ahead or less."""
-    key = min(layers[-1])
+def same_key(number, key):
+    """A KEY at an ENTRY, as it is."""
+    return key
+
+
+def history_to(book, roads, layers, key, going, bare):
+    """A HISTORY that goes through layers, one for each ENTRY, to a KEY of the last one.
+
+    A KEY of a layer is one that layer_on tells of the layer ahead, by going, if bare(number, KEY) is that one.
+    """
     state = first_state(layers[-1][key])
     courses = []
     for number in range(len(layers) - 1, 0, -1):
-        key, earlier, hours = step_back(book, roads[number], number, layers[number - 1], key, state, going)
+        led = bare(number, key)
+        key, earlier, hours = step_back(book, roads[number], number, layers[number - 1], led, state, going)
         courses.append(course_between(book[0], earlier[1], state[1], wants_at(book, number), hours))
         state = earlier
     return state[0], state[1], tuple(courses[::-1])
+
+
+def history_in(book, roads, layers, going):
+    """A HISTORY that goes through layers, one for each ENTRY, each of what layer_on tells of the one ahead or less."""
+    return history_to(book, roads, layers, min(layers[-1]), going, same_key)
 
 
 def layer_within(layer, sets):

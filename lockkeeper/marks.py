@@ -96,16 +96,18 @@ def first_layer(book, looks):
     return {key: suits} if has_any(suits) else {}
 
 
-def layer_at(book, looks, number):
-    """The layer at an ENTRY, by HISTORIES that agree with the BOOK of the ENTRIES up to it."""
-    known = {}
-    layer = looked_at(first_layer(book, looks), looks, 0)
-    for at in range(1, number + 1):
-        led = layer_on(book, road_at(book, at, known), at, layer, marking(looks))
-        layer = looked_at(led, looks, at)
-        if many_keys(layer) > 2000:
+def layers_by(book, roads, looks):
+    """The list of the layers at the ENTRIES, by HISTORIES that agree with the BOOK of the ENTRIES up to each one.
+
+    There are as many of them as ROADS.
+    """
+    layers = [looked_at(first_layer(book, looks), looks, 0)]
+    for number in range(1, len(roads)):
+        led = layer_on(book, roads[number], number, layers[-1], marking(looks))
+        layers.append(looked_at(led, looks, number))
+        if many_keys(layers[-1]) > 2000:
             raise TooMany(2000)
-    return layer
+    return layers
 
 
 def marked_by(layer):
@@ -124,4 +126,6 @@ def marked_at(book, menu, claim, number):
     need_menu(book, menu)
     need_claim(book, menu, claim)
     need_number(book, number)
-    return marked_by(layer_at(book, menu + (claim,), number))
+    known = {}
+    roads = [None] + [road_at(book, at, known) for at in range(1, number + 1)]
+    return marked_by(layers_by(book, roads, menu + (claim,))[number])

@@ -26,3 +26,16 @@ def menu_by_chance(chance, book):
         looks = tuple(look_by_chance(chance, book) for _ in range(chance.randint(1, 4)))
         if many_between(looks) < 3:
             return looks[:-1], looks[-1]
+
+
+def hours_by_chance(chance, book, number):
+    """A MENU of LOOKS "hour" at one ENTRY, and a CLAIM that most often hangs on their ANSWERS alone."""
+    residues = range(len(book[1][0]))
+    menu = tuple(("hour", number, tuple(at for at in residues if chance.random() < 0.5)) for _ in range(chance.choice((0, 1, 2, 3, 3, 3))))
+    worths = {}
+    some = []
+    for at in residues:
+        answers = tuple(at in look[2] for look in menu)
+        if worths.setdefault(answers, chance.random() < 0.5) is not (chance.random() < 0.03):
+            some.append(at)
+    return menu, ("hour", number, tuple(some))

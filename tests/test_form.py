@@ -53,6 +53,17 @@ notes: notes_of(book) left_out(book, bunch) kept_alone(book, bunch) mends(book) 
 notepapers: check_notes(book, paper)
 looks: is_look(book, thing) look_of(book, history, claim) answers_of(book, history, menu)
 marks: marked_at(book, menu, claim, number)
+trees: all_answers(book, menu) claim_word(book, claim) settles(book, menu, claim, tree) depth(book, menu, claim)
+    first_looks(book, menu, claim) scant_lots(book, menu, claim) look_paper(book, menu, claim)
+treepapers: need_tree(book, menu, thing) comes_to(book, menu, tree, answers) check_looks(book, menu, claim, paper)
+rounds: written(book, again, many) steps(book, again) rest(book, again, many) is_right_with(book, again, many)
+    turn(book, again) times_of(book, again, pair) most_rounds(book, again) span(book, again, many)
+    least_pace(book, again) most_pace(book, again) ever_paper(book, again) least_pace_paper(book, again)
+    most_pace_paper(book, again)
+roundpapers: need_rounds(book, thing) check_ever(book, again, paper) check_pace(book, again, paper)
+tasks: need_task(thing) is_done(task) task_overturned(task) least_changes(task, beginning) hours_by(task, beginning)
+    waits_by(task, beginning) fewest_hours(task) least_waits(task) front(lock, place, inside, hours)
+    keeps_up(lock, period, coming) least_period(lock, coming)
 """
 
 ALLOWED = set("""len range enumerate zip min max sum abs sorted reversed int str bool bytes list tuple dict set frozenset
@@ -94,7 +105,7 @@ class Interface(unittest.TestCase):
             self.assertEqual([str(parameter) for parameter in told], parameters, name)
             for parameter in told:
                 self.assertIs(parameter.kind, inspect.Parameter.POSITIONAL_OR_KEYWORD)
-        self.assertEqual(many, 129)
+        self.assertEqual(many, 166)
 
 
 class Form(unittest.TestCase):
