@@ -8,7 +8,7 @@ def are_strokes(thing):
     """Whether any value is STROKES."""
     if not isinstance(thing, tuple) or not 1 <= len(thing) <= 12:
         return False
-    return all(is_within(stroke, 0, 24) for stroke in thing)
+    return all([is_within(stroke, 0, 24) for stroke in thing])
 
 
 def need_clock(thing):

@@ -29,11 +29,11 @@ def is_worded(thing, word, many):
 
 def is_ascending(things):
     """Whether each is greater than the one ahead; only of things that can be compared."""
-    return all(things[at - 1] < things[at] for at in range(1, len(things)))
+    return all([things[at - 1] < things[at] for at in range(1, len(things))])
 
 
 def are_up_to(things, greatest):
     """Whether it is a tuple of as many integers as there are greatest ones, each from 0 to its own."""
     if not is_tuple_of(things, len(greatest)):
         return False
-    return all(is_within(thing, 0, most) for thing, most in zip(things, greatest))
+    return all([is_within(thing, 0, most) for thing, most in zip(things, greatest)])

@@ -186,7 +186,7 @@ def told_of(stand, way):
     for leg in way:
         here = behind_leg(here, leg)
         levels.append(here[0])
-    hours = sum(leg[2] if leg[0] == "to" else 1 for leg in way)
+    hours = sum([leg[2] if leg[0] == "to" else 1 for leg in way])
     return here, hours, (min(levels), max(levels)), passed_by(way)
 
 
@@ -203,14 +203,14 @@ def way_told(lock, stand, way):
 
 def are_knots(lock, stand, wants, things):
     """Whether it is a list or a tuple of KNOTS that ascend."""
-    return all(is_knot(lock, stand, wants, thing) for thing in things) and is_ascending(things)
+    return all([is_knot(lock, stand, wants, thing) for thing in things]) and is_ascending(things)
 
 
 def are_lows(lock, stand, wants, things):
     """Whether any value has the form of LOWS."""
     if not isinstance(things, tuple):
         return False
-    if not all(is_tuple_of(thing, 2) and is_from(thing[1], 1) for thing in things):
+    if not all([is_tuple_of(thing, 2) and is_from(thing[1], 1) for thing in things]):
         return False
     # That the KNOTS ascend is that the pairs do, and that no KNOT stands twice.
     return are_knots(lock, stand, wants, [thing[0] for thing in things])
@@ -222,7 +222,7 @@ def is_low(lock, stand, other, wants, lows, knot):
     if end is not None and lows[knot] > end:
         return False
     steps = steps_of(lock, stand, wants, knot)
-    return all(lows[knot] <= lows.get(further, 0) + steps[further] for further in steps)
+    return all([lows[knot] <= lows.get(further, 0) + steps[further] for further in steps])
 
 
 def holds_need(lock, stand, other, wants, paper):
@@ -235,7 +235,7 @@ def holds_need(lock, stand, other, wants, paper):
     lows = {knot: number for knot, number in paper[2]}
     if lows.get(first_of(lock, stand, wants), 0) != hours:
         return False
-    return all(is_low(lock, stand, other, wants, lows, knot) for knot in lows)
+    return all([is_low(lock, stand, other, wants, lows, knot) for knot in lows])
 
 
 def holds_never(lock, stand, other, wants, paper):
@@ -249,7 +249,7 @@ def holds_never(lock, stand, other, wants, paper):
     for knot in paper[1]:
         if end_of(lock, stand, other, wants, knot) is not None:
             return False
-        if any(further not in knots for further in steps_of(lock, stand, wants, knot)):
+        if any([further not in knots for further in steps_of(lock, stand, wants, knot)]):
             return False
     return True
 

@@ -21,7 +21,7 @@ def are_stretches(lock, thing):
 
 def is_lot(lock, thing):
     """Whether any value is a LOT."""
-    return is_tuple_of(thing, lock[3] + 1) and all(are_stretches(lock, part) for part in thing)
+    return is_tuple_of(thing, lock[3] + 1) and all([are_stretches(lock, part) for part in thing])
 
 
 def need_lot(lock, thing):
@@ -157,7 +157,7 @@ def is_lot_within(lock, lot, another):
 def many_stands(lock, lot):
     """How many STANDS the LOT has."""
     need_lot(lock, lot)
-    return sum(high - low + 1 for part in lot for low, high in part)
+    return sum([high - low + 1 for part in lot for low, high in part])
 
 
 def least_stand(lock, lot):

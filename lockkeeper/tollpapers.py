@@ -23,7 +23,7 @@ def need_tolls(thing):
     for number, call in enumerate(calls):
         if not is_call(call, number):
             raise BadToll(number)
-    if sum(gap[1] for gap, _ in calls[1:]) > 24:
+    if sum([gap[1] for gap, _ in calls[1:]]) > 24:
         raise BadToll("hours")
     return thing
 
@@ -47,7 +47,7 @@ def are_hours(tolls, value):
     calls = tolls[1]
     if not is_tuple_of(value, len(calls) - 1):
         return False
-    return all(is_within(hours, call[0][0], call[0][1]) for hours, call in zip(value, calls[1:]))
+    return all([is_within(hours, call[0][0], call[0][1]) for hours, call in zip(value, calls[1:])])
 
 
 def residues_at(clock, residue, hours):
@@ -62,7 +62,7 @@ def all_fit(tolls, residue, hours):
     """Whether each HEARD fits the RESIDUE at its CALL."""
     clock, calls = tolls
     residues = residues_at(clock, residue, hours)
-    return all(fits(clock, call[1], at) for call, at in zip(calls, residues))
+    return all([fits(clock, call[1], at) for call, at in zip(calls, residues)])
 
 
 def does_agree(tolls, residue, hours):
@@ -99,7 +99,7 @@ def is_toll_lot(clock, thing):
     """Whether any value is an ascending tuple of RESIDUES."""
     if not isinstance(thing, tuple):
         return False
-    return all(is_residue(clock, residue) for residue in thing) and is_ascending(thing)
+    return all([is_residue(clock, residue) for residue in thing]) and is_ascending(thing)
 
 
 def are_out_lots(tolls, lots):
@@ -107,14 +107,14 @@ def are_out_lots(tolls, lots):
     clock, calls = tolls
     if not isinstance(lots, tuple) or not 1 <= len(lots) <= len(calls):
         return False
-    if not all(is_toll_lot(clock, lot) for lot in lots) or lots[-1] != ():
+    if not all([is_toll_lot(clock, lot) for lot in lots]) or lots[-1] != ():
         return False
-    if not all(residue in lots[0] for residue in fitting(clock, calls[0])):
+    if not all([residue in lots[0] for residue in fitting(clock, calls[0])]):
         return False
     for number in range(1, len(lots)):
         for residue in lots[number - 1]:
             led = led_by_call(clock, calls[number], residue)
-            if not all(behind in lots[number] for behind, _ in led):
+            if not all([behind in lots[number] for behind, _ in led]):
                 return False
     return True
 
@@ -153,7 +153,7 @@ def are_total_rows(tolls, first, last, rows):
     """Whether any value is ROWS as in a paper on the TOTALS."""
     if not isinstance(rows, tuple):
         return False
-    if not all(is_total_row(tolls, first, last, row) for row in rows):
+    if not all([is_total_row(tolls, first, last, row) for row in rows]):
         return False
     return is_ascending([row[0] for row in rows])
 
@@ -162,7 +162,7 @@ def is_sum_lot(clock, thing):
     """Whether any value is an ascending tuple of pairs (RESIDUE, SUM)."""
     if not isinstance(thing, tuple):
         return False
-    if not all(is_tuple_of(pair, 2) and is_residue(clock, pair[0]) and is_from(pair[1], 0) for pair in thing):
+    if not all([is_tuple_of(pair, 2) and is_residue(clock, pair[0]) and is_from(pair[1], 0) for pair in thing]):
         return False
     return is_ascending(thing)
 
@@ -178,14 +178,14 @@ def sums_behind(tolls, first, last, number, pair):
 def are_sum_lots(tolls, first, last, lots):
     """Whether any value is LOTS as in a paper on the TOTALS, but for the last sentence on them."""
     clock, calls = tolls
-    if not is_tuple_of(lots, len(calls)) or not all(is_sum_lot(clock, lot) for lot in lots):
+    if not is_tuple_of(lots, len(calls)) or not all([is_sum_lot(clock, lot) for lot in lots]):
         return False
-    if not all((residue, 0) in lots[0] for residue in fitting(clock, calls[0])):
+    if not all([(residue, 0) in lots[0] for residue in fitting(clock, calls[0])]):
         return False
     for number in range(1, len(lots)):
         held = {pair: True for pair in lots[number]}
         for pair in lots[number - 1]:
-            if not all(behind in held for behind, _ in sums_behind(tolls, first, last, number, pair)):
+            if not all([behind in held for behind, _ in sums_behind(tolls, first, last, number, pair)]):
                 return False
     return True
 
@@ -202,7 +202,7 @@ def check_toll_totals(tolls, first, last, paper):
     if not are_sum_lots(tolls, first, last, lots):
         raise BadPaper("lots")
     totals = [row[0] for row in rows]
-    if not all(pair[1] in totals for pair in lots[-1]):
+    if not all([pair[1] in totals for pair in lots[-1]]):
         raise BadPaper("sums")
     return tuple(totals)
 
@@ -234,14 +234,14 @@ def is_no_greater(pair, other):
 
 def is_decided(pair, keen_pairs, out_pairs):
     """Whether a KEEN is no greater in both than the pair, or this than a PAIR of OUTS."""
-    if any(is_no_greater(keen, pair) for keen in keen_pairs):
+    if any([is_no_greater(keen, pair) for keen in keen_pairs]):
         return True
-    return any(is_no_greater(pair, out) for out in out_pairs)
+    return any([is_no_greater(pair, out) for out in out_pairs])
 
 
 def are_least(pairs):
     """Whether none of the pairs is no greater in both than another one."""
-    return not any(is_no_greater(pair, other) for pair in pairs for other in pairs if pair != other)
+    return not any([is_no_greater(pair, other) for pair in pairs for other in pairs if pair != other])
 
 
 def firsts_ascend(things):
@@ -255,15 +255,15 @@ def check_keens(tolls, paper):
     if not is_worded(paper, "keens", 3):
         raise BadPaper("form")
     _, rows, outs = paper
-    if not isinstance(rows, tuple) or not all(is_keen_row(tolls, row) for row in rows) or not firsts_ascend(rows):
+    if not isinstance(rows, tuple) or not all([is_keen_row(tolls, row) for row in rows]) or not firsts_ascend(rows):
         raise BadPaper("rows")
-    if not isinstance(outs, tuple) or not all(is_keen_out(tolls, out) for out in outs) or not firsts_ascend(outs):
+    if not isinstance(outs, tuple) or not all([is_keen_out(tolls, out) for out in outs]) or not firsts_ascend(outs):
         raise BadPaper("outs")
     keen_pairs = [row[0] for row in rows]
     if not are_least(keen_pairs):
         raise BadPaper("least")
     out_pairs = [out[0] for out in outs]
     for missed in range(25):
-        if not all(is_decided((missed, added), keen_pairs, out_pairs) for added in range(25)):
+        if not all([is_decided((missed, added), keen_pairs, out_pairs) for added in range(25)]):
             raise BadPaper("every")
     return tuple(keen_pairs)

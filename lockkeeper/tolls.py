@@ -26,7 +26,7 @@ def lots_behind(tolls):
         later = lots[-1]
         here = []
         for residue in fitting(clock, calls[number - 1]):
-            if any(behind in later for behind, _ in led_by_call(clock, calls[number], residue)):
+            if any([behind in later for behind, _ in led_by_call(clock, calls[number], residue)]):
                 here.append(residue)
         lots.append(here)
     return lots[::-1]
@@ -228,7 +228,7 @@ def toll_totals_paper(tolls, first, last):
 
 def is_corner(pairs, pair):
     """Whether a pair is not no greater in both than another one of the pairs."""
-    return not any(is_no_greater(pair, other) for other in pairs if other != pair)
+    return not any([is_no_greater(pair, other) for other in pairs if other != pair])
 
 
 def wrong_corners(steps):

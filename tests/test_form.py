@@ -64,25 +64,41 @@ roundpapers: need_rounds(book, thing) check_ever(book, again, paper) check_pace(
 tasks: need_task(thing) is_done(task) task_overturned(task) least_changes(task, beginning) hours_by(task, beginning)
     waits_by(task, beginning) fewest_hours(task) least_waits(task) front(lock, place, inside, hours)
     keeps_up(lock, period, coming) least_period(lock, coming)
+planpapers: need_plan(thing) plan_told(task, plan) is_plan(task, value) check_plan(task, paper)
+plans: plan_by(task, beginning) course_of_plan(task, plan) task_paper(task) waits_paper(task)
+texts: book_text(book) read_book(text) row_text(entry) read_row(text) is_thing(value) thing_text(thing)
+    read_thing(text)
+judge: names() need_case(thing) judged(binder) case_text(case) binder_text(binder) read_case(text) read_binder(text)
+keepers: under(manager, deed)
 """
+
+# Each method stands in its class itself.
+CLASSES = """
+keepers.Keeper: __init__(self, lock, clock, stand=_, residue=0) do(self, hour)
+    write(self, things, gap=None, heard=None, signs=_) since(self) entries(self) book(self) history(self) states(self)
+    __len__(self) undo(self, many=1) copy(self) trial(self) __eq__(self, other)
+desk.Desk: __init__(self) say(self, line)
+"""
+PROPERTIES = {"keepers.Keeper": ["lock", "clock", "stand", "residue"], "desk.Desk": ["keeper"]}
 
 ALLOWED = set("""len range enumerate zip min max sum abs sorted reversed int str bool bytes list tuple dict set frozenset
     isinstance ord repr any all divmod iter next map Exception ValueError TypeError KeyError IndexError LookupError
     ZeroDivisionError ArithmeticError OverflowError RuntimeError NotImplementedError AttributeError StopIteration
     NotImplemented property staticmethod classmethod super""".split())
+TAKE_LISTS = ("any", "all", "min", "max", "sum", "sorted")
 LIBRARY = {"heapq": {"heappush", "heappop", "heapify"}, "math": {"gcd"}, "itertools": {"product"}}
 BARRED_WORDS = re.compile(r"\b(type|typing|enum|Enum|Flag|Generic|Protocol|ABC|NamedTuple)\b|dataclass|overload")
 BARRED_NAMES = re.compile(BARRED_WORDS.pattern + r"|\b(register|mro|elements|open|input|law|version_info|add_note)\b")
 
 
-def told_interface():
-    """Triples of a module, a function, its parameters."""
+def told_interface(text):
+    """Triples of a module or a class, a function or a method, its parameters."""
     module = None
-    for row in re.findall(r"(\w+):|(\w+)\(([^)]*)\)", INTERFACE):
+    for row in re.findall(r"([\w.]+):|(\w+)\(([^)]*)\)", text):
         if row[0]:
             module = row[0]
         else:
-            yield module, row[1], re.split(r",\s*", row[2])
+            yield module, row[1], re.split(r",\s*", row[2]) if row[2] else []
 
 
 def files():
@@ -97,7 +113,7 @@ class Interface(unittest.TestCase):
 
     def test_each_function_stands_in_its_file_with_its_parameters(self):
         many = 0
-        for module, name, parameters in told_interface():
+        for module, name, parameters in told_interface(INTERFACE):
             many += 1
             held = getattr(importlib.import_module(f"lockkeeper.{module}"), name)
             self.assertEqual(held.__module__, f"lockkeeper.{module}")
@@ -105,7 +121,21 @@ class Interface(unittest.TestCase):
             self.assertEqual([str(parameter) for parameter in told], parameters, name)
             for parameter in told:
                 self.assertIs(parameter.kind, inspect.Parameter.POSITIONAL_OR_KEYWORD)
-        self.assertEqual(many, 166)
+        self.assertEqual(many, 189)
+
+
+    def test_each_method_stands_in_its_class(self):
+        for place, name, parameters in told_interface(CLASSES):
+            module, word = place.split(".")
+            kind = getattr(importlib.import_module(f"lockkeeper.{module}"), word)
+            self.assertEqual(kind.__module__, f"lockkeeper.{module}")
+            told = [re.sub(r"=\(.*\)", "=_", str(parameter)) for parameter in inspect.signature(vars(kind)[name]).parameters.values()]
+            self.assertEqual(told, parameters, (place, name))
+        for place, names in PROPERTIES.items():
+            module, word = place.split(".")
+            kind = getattr(importlib.import_module(f"lockkeeper.{module}"), word)
+            for name in names:
+                self.assertIsInstance(vars(kind)[name], property)
 
 
 class Form(unittest.TestCase):
@@ -127,7 +157,7 @@ class Form(unittest.TestCase):
             for node in ast.walk(tree):
                 if isinstance(node, ast.FunctionDef):
                     self.assertLessEqual(node.end_lineno - node.lineno + 1, 40, (name, node.name))
-                    self.assertEqual(node.decorator_list, [])
+                    self.assertIn([ast.unparse(one) for one in node.decorator_list], ([], ["property"]))
                     self.assertTrue(node.name == "__init__" or ast.get_docstring(node), (name, node.name))
 
     def test_module_level(self):
@@ -182,6 +212,11 @@ class Form(unittest.TestCase):
                     if isinstance(node, (ast.Module, ast.FunctionDef, ast.ClassDef)) and ast.get_docstring(node)}
             for node in ast.walk(tree):
                 self.assertNotIsInstance(node, (ast.Global, ast.AsyncFunctionDef, ast.Await, ast.Div, ast.Set), name)
+                # A class has an __eq__: so these take lists.
+                if isinstance(node, ast.Call) and isinstance(node.func, ast.Name) and node.func.id in TAKE_LISTS:
+                    self.assertFalse([part for part in node.args if isinstance(part, ast.GeneratorExp)], (name, node.lineno))
+                if isinstance(node, ast.Attribute):
+                    self.assertNotEqual(node.attr, "sort", name)
                 if isinstance(node, ast.Constant):
                     self.assertNotIsInstance(node.value, (float, complex), name)
                     if isinstance(node.value, str):
