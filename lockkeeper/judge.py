@@ -2,13 +2,13 @@
 
 from lockkeeper.bookpapers import check_book
 from lockkeeper.dutypapers import check_bounds, check_duty
-from lockkeeper.errors import BadCase, BadNumber, BadPaper, BadText, LockError, Nothing, TooMany, Wrong
+from lockkeeper.errors import BadCase, BadPaper, BadText, LockError, Nothing, TooMany, Wrong
 from lockkeeper.kinds import is_tuple_of
 from lockkeeper.needpapers import check_hours
 from lockkeeper.notepapers import check_notes
 from lockkeeper.planpapers import check_plan
 from lockkeeper.roundpapers import check_ever, check_pace
-from lockkeeper.texts import is_thing, need_text, read_thing, thing_text
+from lockkeeper.texts import need_text, read_thing, thing_text
 from lockkeeper.tollpapers import check_keens, check_toll_totals, check_tolls
 from lockkeeper.treepapers import check_looks
 
@@ -131,21 +131,14 @@ def judged(binder):
     return tuple([judged_case(case) for case in need_binder(binder)])
 
 
-def text_of_case(case):
-    """The text of what is known to be a CASE."""
-    if not is_thing(case):
-        raise BadNumber(case)
-    return thing_text(case)
-
-
 def case_text(case):
     """The text of the CASE."""
-    return text_of_case(need_case(case))
+    return thing_text(need_case(case))
 
 
 def binder_text(binder):
     """The text of the BINDER."""
-    return "\n".join([text_of_case(case) for case in need_binder(binder)])
+    return "\n".join([thing_text(case) for case in need_binder(binder)])
 
 
 def case_at(line, row):

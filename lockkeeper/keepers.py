@@ -4,7 +4,7 @@ from lockkeeper.books import are_signs, first_beyond
 from lockkeeper.clocks import behind_hours, fits, is_gap, is_residue, need_clock
 from lockkeeper.courses import passed_by
 from lockkeeper.errors import BadDeed, BadHour, BadNumber, BadStand, Nothing
-from lockkeeper.kinds import is_ascending, is_within
+from lockkeeper.kinds import is_ascending, is_integer, is_within
 from lockkeeper.locks import is_hour_at, is_stand, need_lock, stand_behind
 
 THINGS = ("boats", "heard", "level", "marks", "passed")
@@ -55,7 +55,8 @@ def can_be_heard(clock, stage, things, heard):
     """Whether any value is HEARD as THINGS ask for it."""
     if "heard" not in things:
         return heard is None
-    return is_within(heard, 0, 99) and fits(clock, heard, stage[1])
+    # What fits is from 0 to 99, too.
+    return is_integer(heard) and fits(clock, heard, stage[1])
 
 
 def need_deed(clock, stage, deed):

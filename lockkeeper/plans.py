@@ -40,7 +40,7 @@ def times_of_turn(task, other, steps):
     if task[3] != other[3] or len(steps) < 4:
         return 1
     waiting = ((task[2][1], steps[1][2]), (task[2][0], steps[3][2]))
-    return min([many // come for many, come in waiting if come > 0], default=1)
+    return min([many // come for many, come in waiting if come > 0])
 
 
 def turns_from(task):

@@ -7,7 +7,7 @@ from lockkeeper.books import first_beyond, need_book, wrong_part
 from lockkeeper.clocks import is_residue
 from lockkeeper.errors import BadPaper, BadRounds
 from lockkeeper.kinds import is_ascending, is_from, is_tuple_of, is_within, is_worded
-from lockkeeper.stretches import has_level, lot_of
+from lockkeeper.stretches import lot_of
 
 BLANK = (None, None, None, None, None, None, ())
 
@@ -80,21 +80,16 @@ def lap_layers(book, again):
     return layers_on(lap, roads_of(lap), starts, adding)
 
 
-def pairs_at(sets, level):
-    """The ascending list of the PAIRS of the STATES of SETS with this level; with any, if it is None."""
-    pairs = []
-    for residue, lot in enumerate(sets):
-        for boats, part in enumerate(lot):
-            if part and (level is None or has_level(part, level)):
-                pairs.append((residue, boats))
-    return pairs
+def pairs_in(sets):
+    """The ascending list of the PAIRS of the STATES of SETS."""
+    return [(residue, boats) for residue, lot in enumerate(sets) for boats, part in enumerate(lot) if part]
 
 
 def steps_by(layers):
     """A dict of the pairs (PAIR, OTHER) of which the one leads to the other one, each with its ascending HOURS."""
     leads = {}
     for pair, hours in sorted(layers[-1]):
-        for other in pairs_at(layers[-1][(pair, hours)], None):
+        for other in pairs_in(layers[-1][(pair, hours)]):
             leads.setdefault((pair, other), []).append(hours)
     return leads
 
@@ -168,7 +163,7 @@ def first_hours(book, again):
         layer = layer_on(wide, roads[number], number, layer, adding)
     told = {}
     for key in sorted(layer):
-        for pair in pairs_at(layer[key], None):
+        for pair in pairs_in(layer[key]):
             told.setdefault(pair, []).append(key[1])
     return told
 

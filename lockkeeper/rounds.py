@@ -9,7 +9,7 @@ from lockkeeper.histories import history_by, history_in, history_within, need_ri
 from lockkeeper.kinds import is_within
 from lockkeeper.locks import GREATEST
 from lockkeeper.roundpapers import (
-    adding, first_hours, is_pair, lap_book, lap_layers, lasting, leads_of, need_given_rounds, others_by, pairs_at,
+    adding, first_hours, is_pair, lap_book, lap_layers, lasting, leads_of, need_given_rounds, others_by, pairs_in,
     reached, ring_in, sets_at, steps_by, way_to, written_on)
 from lockkeeper.tables import tables_ahead
 
@@ -49,7 +49,7 @@ def steps(book, again):
 def first_rest(book):
     """REST of no times."""
     sets = tables_ahead(book, roads_of(book))[-1]
-    return tuple(pairs_at(sets, None))
+    return tuple(pairs_in(sets))
 
 
 def rest_behind(others, pairs):

@@ -209,14 +209,13 @@ def is_plain(thing):
 def is_thing(value):
     """Whether any value is a THING."""
     layer = [value]
-    many = 0
+    many = 1
     for _ in range(21):
-        many += len(layer)
         tuples = [thing for thing in layer if isinstance(thing, tuple)]
-        if many > 6000 or not all([isinstance(thing, tuple) or is_plain(thing) for thing in layer]):
+        if not all([isinstance(thing, tuple) or is_plain(thing) for thing in layer]):
             return False
-        # More than so many need not be told.
-        if many + sum([len(thing) for thing in tuples]) > 6000:
+        many += sum([len(thing) for thing in tuples])
+        if many > 6000:
             return False
         layer = [part for thing in tuples for part in thing]
     return layer == []
@@ -259,8 +258,7 @@ def put_word(stack, word):
             return False
         closed = stack.pop()
         stack[-1].append(tuple(closed))
-    # The outermost list is no tuple, so within it a THING of 20 others stands within 21 lists.
-    return len(stack) <= 21
+    return True
 
 
 def thing_by(text):
@@ -269,11 +267,8 @@ def thing_by(text):
     for word in text.split(" "):
         if not put_word(stack, word):
             return []
-    if len(stack) != 1 or len(stack[0]) != 1:
-        return []
-    thing = stack[0][0]
-    # Each THING has just one text: so what is written in any other way is none.
-    return [thing] if is_thing(thing) and text_by(thing) == text else []
+    # Each THING has just one text: so a text that is not all of the first THING's text writes none.
+    return [thing for thing in stack[0][:1] if is_thing(thing) and text_by(thing) == text]
 
 
 def read_thing(text):

@@ -191,7 +191,7 @@ class Desks(Asking):
                      "states", "level 1", "level a", "states 0 0", "water", "water 04", "water +4", "water 4 4", "water  4", "water 5", f"water {most}", "upper 0", "upper 0 0 0", "upper 2 0",
                      "lower 0 0", "write boats", "write boats gap", "write gap 0", "write gap 0 0 0", "write gap 1 1", "write gap 00 0", "write level boats gap 0 0",
                      "write boats boats gap 0 0", "write gap 0 0 strokes", "write gap 0 0 strokes 1", "write heard gap 0 0", "write heard strokes 3", "write heard gap 0 0 strokes 2",
-                     "write heard strokes 3 gap 0 0", "write gap 0 0 signs", "write gap 0 0 signs ba", "write gap 0 0 signs abcd", "write gap 0 0 signs a b", "write gap 0 0 signs A",
+                     "write heard strokes 3 gap 0 0", "write gap 0 0 signs", "write gap 0 0 signs ba", "write gap 0 0 signs abcd", "write gap 0 0 signs a b", "write gap 0 0 signs A", "write gap 0 0 sign ab", "write gap 0 0 a b", "write gap 0 0 stroke 1", "write wide 0 0",
                      "write signs a gap 0 0", "write gap 0 0 gap 0 0", "write water gap 0 0", "back", "back 0", "back 2", "back 01", "back 1 1", "back a", "forget", "forget 0", "forget level 0",
                      "forget 0 gap", "forget 0 signs", "forget 1 level", "forget 0 level level", "wide", "wide 0 0 0", "wide 1 0 0", "wide 0 0", "done", "no", "lock", "clock", "stand\n",
                      "lock 1 1 1 1", "lock 1 1 1 1 clock", "lock 1 1 1 1 clock 0 0", "lock 1 1 1 1 clock 0", "lock 1 1 1 clock 0 0 1", "lock 1 1 1 3 clock 0 0 1", "lock 1 0 1 1 clock 0 0 1",

@@ -225,7 +225,7 @@ class Writings(Asking):
         keeper = self.keeper()
         keeper.do(("water", 3))
         things = OTHERS + [("boats", "boats"), ("level", "boats"), ("gap",), ["boats"], ("Boats",), (b"boats",), (None,), ("",), ("boats", None)]
-        for thing in things:
+        for thing in things + [(other,) for other in OTHERS] + [("boats", other) for other in OTHERS]:
             self.refused(BadDeed, {"part": "things"}, keeper.write, thing, 1, 2, 3)
         for thing in OTHERS + [(0, 0), (2, 2), (2, 12), (0, 13), (-1, 1), (1, 0), (0,), (0, 1, 2), [0, 1], (True, 1), (0, True), (0, None)]:
             self.refused(BadDeed, {"part": "gap"}, keeper.write, (), thing, 2, 3)

@@ -45,7 +45,7 @@ class Plans(Asking):
             self.refused(BadPlan, {"number": None}, plan_told, TASK, thing)
             self.assertIs(is_plan(TASK, thing), False)
         wrong = [(0, turn), (-1, turn), (BIG + 1, turn), (True, turn), (1, ()), (1, turn * 9), (1,), (1, turn, 0), [1, turn], (1, list(turn)), (1, ((),)),
-                 (1, (("full",),)), (1, (("fill", 0),)), (1, ("fill",)), (1, (("upper", 1),)), (1, (("upper", -1, 0),)), (1, (("upper", 0, 3),)),
+                 (1, (("full",),)), (1, (("fill", 0),)), (1, ("fill",)), (1, (("upper", 1),)), (1, (("upper", -1, 0),)), (1, (("upper", 0, 3),)), (1, (("upper", 0, -1),)), (1, (("lower", 1, -1),)),
                  (1, (("upper", 3, 0),)), (1, (("lower", True, 0),)), (1, (("lower", 0, False),)), (1, (("lower", 0, 0, 0),)), (1, ((b"fill",),)),
                  (1, (["fill"],)), (1, (("water", 0),)), (1, ((("fill",),),))] + OTHERS
         for thing in wrong:

@@ -24,6 +24,8 @@ TURNS = [
     ((2, 2), None, ((0, 1, 1, 2), ((0, 1, 2), 1, 1), (entry(heard=3),)), (entry((0, 2), heard=2, level=0, passed=(1, 1, 0, 0)),)),
     ((2, 3), None, ((1, 1, 1, 1), ((0, 4, 2), 1, 0), (entry(level=1, boats=0), entry((0, 1), heard=1, level=1, boats=0))),
      (entry((1, 1), level=0),)),
+    # From the RESIDUE 10 to 1, to which nothing else leads, and from there to 4, 8, 0, 4, 8, 0 ..
+    ((2, 3), None, ((0, 1, 1, 0), ((5, 5, 0, 0, 5, 0, 0, 0, 5, 0, 7, 0), 0, 0), (entry(heard=7),)), (entry((3, 4), heard=5, level=0),)),
     ((5, 1), None, ((1, 1, 1, 1), ((1, 3, 0, 0), 1, 1), (entry(heard=4, boats=0),)), (entry((0, 1), heard=1), entry((2, 2), level=1))),
     ((4, 1), 3, ((0, 1, 1, 2), ((0, 2, 3, 4), 1, 1), (entry(level=0, boats=0),)),
      (entry((0, 2), passed=(0, 1, 1, 0)), entry((3, 3), heard=3, level=0, boats=0))),

@@ -52,6 +52,20 @@ class Trees(Asking):
         self.refused(BadTree, {"given": (0, True, False)}, need_tree, BOOK, (), (0, True, False))
         self.assertIs(need_tree(BOOK, (), False), False)
 
+    def test_how_deep(self):
+        four = (0, (1, (0, True, False), False), True)
+        for five in [(0, four, True), (0, True, four), (0, (1, True, (0, (1, False, True), True)), True), (0, True, (1, (0, True, (1, True, False)), True))]:
+            self.assertEqual(plaintrees.deep(five), 5)
+            self.refused(BadTree, {"given": five}, need_tree, BOOK, MENU, five)
+            self.assertEqual(need_tree(BOOK, MENU, five[1]), five[1])
+            tables = look_paper(BOOK, MENU, ("level", 0, 0))[2]
+            self.refused(BadPaper, {"part": "tree"}, check_looks, BOOK, MENU, ("level", 0, 0), ("tree", five, tables))
+        for branch in (1, 2):
+            whole = (0, True, True, True)[:branch] + (four,) + (0, True, True, True)[branch + 1:3]
+            self.refused(BadTree, {"given": whole}, need_tree, BOOK, MENU, whole)
+        told = (0, (1, (0, True, True), True), (1, True, (0, True, True)))
+        self.told("tree", check_looks(BOOK, MENU, ("level", 0, 0), ("tree", told, look_paper(BOOK, MENU, ("level", 0, 0))[2])))
+
     def test_to_what_it_comes(self):
         for answers, worth in [((True, True), True), ((True, False), False), ((False, True), False), ((False, False), False)]:
             self.assertIs(comes_to(book=BOOK, menu=MENU, tree=TREE, answers=answers), worth)
@@ -108,6 +122,28 @@ class Papers(Asking):
                 for word in told:
                     words[word] = words.get(word, 0) + told[word]
         self.assertGreater(min(words["tree"], words[("bad", "tree")]), 20)
+
+    def test_keys_of_another_form(self):
+        """Further KEYS, with one integer otherwise: they may be none of the ENTRY."""
+        words = {}
+        for book, menu, claim, paper in some_papers(47, 40):
+            if paper[0] == "tree":
+                papers = []
+                for at, rows in enumerate(paper[2]):
+                    for key, lot in rows:
+                        for place in (1, 2):
+                            for look in range(len(menu) + 1):
+                                for worth in (-2, -1, 0, 1, 2, 3, 7, BIG, BIG + 1, None, (), True, "a"):
+                                    part = key[place][:look] + (worth,) + key[place][look + 1:]
+                                    other = (key[0], part, key[2]) if place == 1 else key[:2] + (part,)
+                                    more = rows + ((other, lot),)
+                                    if type(worth) is int:
+                                        more = tuple(sorted({**dict(rows), other: lot}.items()))
+                                    papers.append(paper[:2] + (paper[2][:at] + (more,) + paper[2][at + 1:],))
+                told = self.judged_alike(judge_looks, check_looks, (book, menu, claim), papers)
+                for word in told:
+                    words[word] = words.get(word, 0) + told[word]
+        self.assertGreater(min(words["tree"], words[("bad", "tree")]), 100)
 
     def test_other_trees(self):
         chance = random.Random(45)
