@@ -6,7 +6,8 @@ from lockkeeper.books import need_book
 from lockkeeper.errors import BadClock, BadDeed, BadHour, BadLock, BadNumber, BadStand, Nothing
 from lockkeeper.keepers import Keeper, under
 from lockkeeper.looks import answers_of, look_of
-from lockkeeper.maybes import may_boats, may_levels, may_residues, totals
+from lockkeeper.duties import at_once, standing_of
+from lockkeeper.maybes import may_boats, may_hear, may_levels, may_residues, totals
 from lockkeeper.notes import left_out, mends, notes_of
 from lockkeeper.rounds import is_right_with, most_rounds, rest, span
 from lockkeeper.tables import is_right, states_possible
@@ -19,6 +20,7 @@ from tests.plain import OTHERS, hours_at, stands
 from tests.plainkeepers import WORDS, Plain
 from tests.somebooks import BIG, CLOCK, LOCKS, ONE, TWELVE, entry
 from tests.somelooks import menu_by_chance
+from tests.someduties import duty_by_chance
 from tests.test_across import wider
 
 
@@ -130,13 +132,36 @@ class Keepers(Asking):
                 self.assertTrue(any(low <= stand[0] <= high for low, high in may_levels(book, number)))
                 hours = sum(map(len, history[2][:number]))
                 self.assertIn(hours, totals(book, 0, number))
+            self.told_beside(chance, keeper, book, tuple(map(len, history[2])))
             # With more left out of it, too.
             notes = notes_of(book)
             less = wider(left_out(book, tuple(note for note in notes if chance.random() < 0.5)), chance)
             self.assertIs(agrees(less, history), True)
+            self.told_beside(chance, keeper, less, tuple(map(len, history[2])))
             if len(notes) <= 5:
                 self.told(((),), mends(book))
         self.assertGreater(some, 60)
+
+    def told_beside(self, chance, keeper, book, hours):
+        """BOUNDS, DUTIES and what may be heard, beside the KEEPER's own HOURS."""
+        last = len(book[2]) - 1
+        if last:
+            one = chance.randrange(last)
+            other = chance.randrange(one + 1, last + 1)
+            many = sum(hours[one:other])
+            self.assertIs(at_once(book, ((one, other, many, many),)), True)
+            self.assertIs(at_once(book, ((one, other, many, None), (0, last, 0, 24))), True)
+            self.assertIn(many, totals(book, one, other))
+        duty = duty_by_chance(chance)
+        self.assertNotEqual(standing_of(book, duty), "broken" if plainbooks.keeps_duty(book, hours, duty) else "kept")
+        with keeper.trial() as one:
+            for _ in range(chance.randrange(4)):
+                one.do(("water", one.stand[0]))
+            many = one.since()[0]
+            if many <= 12:
+                strokes, missed, _ = keeper.clock
+                heard = max(0, strokes[one.residue] - missed)
+                self.assertTrue(any(low <= heard <= high for low, high in may_hear(book, (many, many))))
 
     def test_trees_asked_of_a_keeper(self):
         chance = random.Random(102)
